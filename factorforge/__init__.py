@@ -1,0 +1,1 @@
+"""Factorforge: polynomials parted until nothing parts further, with papers that show it."""
