@@ -3,8 +3,8 @@
 import copy
 import unittest
 
-from factorforge import polys
-from factorforge.kinds import Powers, Rests, Wholes
+from factorforge import commons, polys, squares, texts
+from factorforge.kinds import Kind, Powers, Rests, Wholes
 
 POLYNOMIALS = [
     [], [0], [1], [3, 0, 1], [3, 0, 1, 0, 0], [-1, 8, -20, 49, 1], [1, 1], [0, 0, 0], [7, 14], [5, 4, 3, 2, 1],
@@ -15,104 +15,116 @@ def all_kinds():
     return [Wholes(), Rests(2), Rests(7), Rests(9973), Powers(7, 1), Powers(7, 2), Powers(9973, 400)]
 
 
+def rest_kinds():
+    return [Rests(2), Rests(3), Rests(7), Rests(9973)]
+
+
 def monic(f):
     return f + [1]
 
 
-def calls():
-    """(name, function, polynomials, numbers): each a call that is not refused over any of the kinds."""
+# Each call is (function, what is handed to it) and is not refused.
+
+def polys_calls(kind):
     found = []
     for f in POLYNOMIALS:
-        found.append(("trimmed", polys.trimmed, [f], []))
-        found.append(("slope", polys.slope, [f], []))
-        for many in (0, 1, 2, 3):
-            found.append(("power", polys.power, [f], [many]))
+        found += [(polys.trimmed, [kind, f]), (polys.slope, [kind, f])]
+        found += [(polys.power, [kind, f, many]) for many in (0, 1, 2, 3)]
         for number in (0, 1, -1, 7, 50):
-            found.append(("scaled", polys.scaled, [f], [number]))
-            found.append(("value", polys.value, [f], [number]))
+            found += [(polys.scaled, [kind, f, number]), (polys.value, [kind, f, number])]
         for g in POLYNOMIALS:
-            found.append(("plus", polys.plus, [f, g], []))
-            found.append(("less", polys.less, [f, g], []))
-            found.append(("times", polys.times, [f, g], []))
-            found.append(("divided", polys.divided, [f, monic(g)], []))
+            found += [(polys.plus, [kind, f, g]), (polys.less, [kind, f, g]), (polys.times, [kind, f, g])]
+            found.append((polys.divided, [kind, f, monic(g)]))
     return found
 
 
-def lists_in(told):
-    """The lists that an answer is made of."""
-    if isinstance(told, list):
-        return [told]
-    if isinstance(told, tuple):
-        return [one for one in told if isinstance(one, list)]
-    return []
+def rests_calls(kind):
+    found = []
+    for f in POLYNOMIALS:
+        found.append((squares.free_parts, [kind, monic(f)]))
+        for g in POLYNOMIALS:
+            found += [(commons.common, [kind, f, g]), (commons.shares, [kind, f, g])]
+    return found
 
 
-def spoil(numbers):
-    """Changes a list at each of its places and at both of its ends."""
-    for at in range(len(numbers)):
-        numbers[at] += 1
-    numbers.append(99)
-    numbers.insert(0, 98)
+def texts_calls():
+    return [(texts.shown, [f]) for f in POLYNOMIALS] + [(texts.read, [text]) for text in ("x", "0", "3x^2 - x + 7")]
+
+
+def calls():
+    found = [call for kind in all_kinds() for call in polys_calls(kind)]
+    found += [call for kind in rest_kinds() for call in rests_calls(kind)]
+    return found + texts_calls()
 
 
 def each_call():
-    """(label, kind, function, polynomials, numbers), the polynomials free to be changed."""
-    for kind in all_kinds():
-        for name, function, lists, numbers in calls():
-            label = f"{name} by size {kind.size} of {lists} and {numbers}"
-            yield label, kind, function, copy.deepcopy(lists), numbers
+    """(label, function, what is handed in), which is free to be changed."""
+    for function, given in calls():
+        shown = [f"size {one.size}" if isinstance(one, Kind) else one for one in given]
+        label = f"{function.__module__}.{function.__name__} of {shown}"
+        yield label, function, tuple(one if isinstance(one, Kind) else copy.deepcopy(one) for one in given)
+
+
+def lists_in(what):
+    """The lists that something is made of, however deep, those within before those around them."""
+    if not isinstance(what, (list, tuple)):
+        return []
+    found = [one for inner in what for one in lists_in(inner)]
+    return found + [what] if isinstance(what, list) else found
+
+
+def spoil(what):
+    """Changes every list within at each of its places that holds a number, and at both of its ends."""
+    for one in lists_in(what):
+        for at, number in enumerate(one):
+            if isinstance(number, int):
+                one[at] = number + 1
+        one.append(99)
+        one.insert(0, 98)
 
 
 class TestOwn(unittest.TestCase):
     def test_what_is_handed_in_is_not_changed(self):
-        for label, kind, function, lists, numbers in each_call():
-            before = copy.deepcopy(lists)
-            function(kind, *lists, *numbers)
-            self.assertEqual(lists, before, label)
+        for label, function, given in each_call():
+            before = copy.deepcopy(lists_in(given))
+            function(*given)
+            self.assertEqual(lists_in(given), before, label)
 
     def test_a_change_to_what_was_handed_in_changes_nothing_told(self):
-        for label, kind, function, lists, numbers in each_call():
-            told = function(kind, *lists, *numbers)
+        for label, function, given in each_call():
+            told = function(*given)
             before = copy.deepcopy(told)
-            for one in lists:
-                spoil(one)
+            spoil(given)
             self.assertEqual(told, before, label)
 
     def test_a_change_to_what_was_told_changes_nothing_handed_in(self):
-        for label, kind, function, lists, numbers in each_call():
-            before = copy.deepcopy(lists)
-            for one in lists_in(function(kind, *lists, *numbers)):
-                spoil(one)
-            self.assertEqual(lists, before, label)
+        for label, function, given in each_call():
+            before = copy.deepcopy(lists_in(given))
+            spoil(function(*given))
+            self.assertEqual(lists_in(given), before, label)
 
     def test_a_change_to_what_was_told_changes_no_other_answer(self):
-        for label, kind, function, lists, numbers in each_call():
-            first = function(kind, *lists, *numbers)
-            second = function(kind, *lists, *numbers)
+        for label, function, given in each_call():
+            first = function(*given)
+            second = function(*given)
             before = copy.deepcopy(first)
-            for one in lists_in(first):
-                spoil(one)
+            spoil(first)
             self.assertEqual(second, before, label)
-            self.assertEqual(function(kind, *lists, *numbers), before, label)
+            self.assertEqual(function(*given), before, label)
 
-    def test_quotient_and_rest_are_two_lists(self):
-        for label, kind, function, lists, numbers in each_call():
-            told = function(kind, *lists, *numbers)
-            if function is polys.divided:
-                self.assertIsNot(told[0], told[1], label)
-                quotient = list(told[0])
-                spoil(told[1])
-                self.assertEqual(told[0], quotient, label)
+    def test_no_list_stands_twice_in_an_answer(self):
+        for label, function, given in each_call():
+            found = lists_in(function(*given))
+            for at, one in enumerate(found):
+                self.assertFalse(any(one is other for other in found[:at]), label)
 
     def test_the_same_list_handed_in_twice(self):
-        for kind in all_kinds():
-            for f in POLYNOMIALS:
-                for function in (polys.plus, polys.less, polys.times, polys.divided):
-                    with self.subTest(size=kind.size, f=f, function=function.__name__):
-                        one = monic(f)
-                        told = function(kind, one, one)
-                        self.assertEqual(one, monic(f))
-                        self.assertEqual(told, function(kind, monic(f), monic(f)))
+        for label, function, given in each_call():
+            if len(given) == 3 and isinstance(given[1], list) and isinstance(given[2], list):
+                expected = function(given[0], list(given[2]), list(given[2]))
+                before = list(given[2])
+                self.assertEqual(function(given[0], given[2], given[2]), expected, label)
+                self.assertEqual(given[2], before, label)
 
     def test_questions_in_between_change_nothing(self):
         one, other = Rests(7), Powers(7, 2)

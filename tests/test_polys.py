@@ -4,11 +4,11 @@ import random
 import unittest
 from fractions import Fraction
 
+from cases import PolysCase
 from factorforge import polys
 from factorforge.errors import NoOver
 from factorforge.kinds import Powers, Rests, Wholes
-
-LONG = 314159265358979323846264338327950288419716939937510582097494
+from reckoning import LONG, form, in_form, product_of, samples, slope_of, some_numbers, sum_of, value_of
 
 
 def kinds():
@@ -19,42 +19,6 @@ def kinds():
     for prime, many in ((2, 1), (2, 3), (2, 400), (3, 2), (5, 4), (7, 2), (9973, 1), (9973, 3), (9973, 400)):
         found.append((f"Powers({prime}, {many})", Powers(prime, many), prime, prime ** many))
     return found
-
-
-# What is expected is reckoned here on its own, with dicts from powers to numbers.
-
-def brought(size, number):
-    return number % size if size else number
-
-
-def in_form(size, terms):
-    numbers = {at: brought(size, number) for at, number in terms.items()}
-    length = max([at + 1 for at, number in numbers.items() if number != 0], default=0)
-    return [numbers.get(at, 0) for at in range(length)]
-
-
-def form(size, f):
-    return in_form(size, dict(enumerate(f)))
-
-
-def sum_of(size, f, g, sign=1):
-    terms = dict(enumerate(f))
-    for at, number in enumerate(g):
-        terms[at] = terms.get(at, 0) + sign * number
-    return in_form(size, terms)
-
-
-def product_of(size, f, g):
-    terms = {}
-    for i, a in enumerate(f):
-        for k, b in enumerate(g):
-            terms[i + k] = terms.get(i + k, 0) + a * b
-    return in_form(size, terms)
-
-
-def value_of(size, f, number):
-    powers = [pow(number, at, size) if size else number ** at for at in range(len(f))]
-    return brought(size, sum(a * b for a, b in zip(f, powers)))
 
 
 def whole_division(f, g):
@@ -72,32 +36,6 @@ def whole_division(f, g):
     return in_form(0, quotient), in_form(0, {at: int(number) for at, number in enumerate(rest)})
 
 
-def some_numbers(source, size, length):
-    """Numbers as they may be handed in: small, below nought, beside multiples of the size, and long."""
-    near = [0, 0, 1, -1, 2, -3, 5, size, -size, size + 1, size - 1, 2 * size - 1, 7 * size, LONG, -LONG]
-    return [source.choice(near) if source.random() < 0.6 else source.randrange(-1000, 1000) for k in range(length)]
-
-
-def samples(size, seed, count=24):
-    source = random.Random(seed)
-    fixed = [[], [0], [0, 0, 0], [1], [-1], [0, 1], [1, 0, 0], [size], [1, size], [0, -1, 2, -3, 0], [size, size, 0]]
-    return fixed + [some_numbers(source, size, source.randrange(0, 9)) for k in range(count)]
-
-
-class PolysCase(unittest.TestCase):
-    def assert_poly(self, told, expected):
-        self.assertIs(told.__class__, list)
-        self.assertEqual(told, expected)
-        for number in told:
-            self.assertIs(number.__class__, int)
-
-    def assert_pair(self, told, quotient, rest):
-        self.assertIs(told.__class__, tuple)
-        self.assertEqual(len(told), 2)
-        self.assert_poly(told[0], quotient)
-        self.assert_poly(told[1], rest)
-
-
 class TestTrimmed(PolysCase):
     def test_written_out(self):
         for kind, f, expected in (
@@ -112,7 +50,7 @@ class TestTrimmed(PolysCase):
 
     def test_over_each_kind(self):
         for name, kind, prime, size in kinds():
-            for f in samples(size, 1):
+            for f in samples(random.Random(1), size):
                 with self.subTest(name, f=f):
                     self.assert_poly(polys.trimmed(kind, f), form(size, f))
 
@@ -126,8 +64,8 @@ class TestTrimmed(PolysCase):
 class TestSums(PolysCase):
     def test_plus_and_less_over_each_kind(self):
         for name, kind, prime, size in kinds():
-            for f in samples(size, 3, 12):
-                for g in samples(size, 4, 12):
+            for f in samples(random.Random(3), size, 12):
+                for g in samples(random.Random(4), size, 12):
                     with self.subTest(name, f=f, g=g):
                         self.assert_poly(polys.plus(kind, f, g), sum_of(size, f, g))
                         self.assert_poly(polys.less(kind, f, g), sum_of(size, f, g, -1))
@@ -151,7 +89,7 @@ class TestSums(PolysCase):
 
     def test_the_same_list_twice(self):
         for name, kind, prime, size in kinds():
-            for f in samples(size, 5):
+            for f in samples(random.Random(5), size):
                 with self.subTest(name, f=f):
                     self.assert_poly(polys.plus(kind, f, f), form(size, [2 * number for number in f]))
                     self.assert_poly(polys.less(kind, f, f), [])
@@ -160,8 +98,8 @@ class TestSums(PolysCase):
 class TestProducts(PolysCase):
     def test_times_over_each_kind(self):
         for name, kind, prime, size in kinds():
-            for f in samples(size, 6, 8):
-                for g in samples(size, 7, 8):
+            for f in samples(random.Random(6), size, 8):
+                for g in samples(random.Random(7), size, 8):
                     with self.subTest(name, f=f, g=g):
                         self.assert_poly(polys.times(kind, f, g), product_of(size, f, g))
 
@@ -179,7 +117,7 @@ class TestProducts(PolysCase):
 
     def test_scaled_over_each_kind(self):
         for name, kind, prime, size in kinds():
-            for f in samples(size, 8):
+            for f in samples(random.Random(8), size):
                 for number in (0, 1, -1, 2, 3, prime, -prime, size, size + 1, LONG, -LONG):
                     with self.subTest(name, f=f, number=number):
                         self.assert_poly(polys.scaled(kind, f, number), form(size, [number * a for a in f]))
@@ -241,10 +179,9 @@ class TestPower(PolysCase):
 class TestSlope(PolysCase):
     def test_over_each_kind(self):
         for name, kind, prime, size in kinds():
-            for f in samples(size, 12) + [some_numbers(random.Random(13), size, 80)]:
+            for f in samples(random.Random(12), size) + [some_numbers(random.Random(13), size, 80)]:
                 with self.subTest(name, f=f):
-                    terms = {at - 1: at * number for at, number in enumerate(f) if at > 0}
-                    self.assert_poly(polys.slope(kind, f), in_form(size, terms))
+                    self.assert_poly(polys.slope(kind, f), slope_of(size, f))
 
     def test_written_out(self):
         self.assert_poly(polys.slope(Wholes(), [7, -1, 3, 0, -5]), [-1, 6, 0, -20])
@@ -264,14 +201,14 @@ class TestValue(PolysCase):
 
     def test_over_each_kind(self):
         for name, kind, prime, size in kinds():
-            for f in samples(size, 14) + [some_numbers(random.Random(15), size, 80)]:
+            for f in samples(random.Random(14), size) + [some_numbers(random.Random(15), size, 80)]:
                 for number in (0, 1, -1, 2, -3, prime, size - 1, size, size + 1, -size, 10 ** 18 + 9):
                     with self.subTest(name, f=f, number=number):
                         self.assert_value(kind, size, f, number)
 
     def test_long_numbers(self):
         for name, kind, prime, size in kinds():
-            for f in samples(size, 16):
+            for f in samples(random.Random(16), size):
                 for number in (LONG, -LONG):
                     with self.subTest(name, f=f, number=number):
                         self.assert_value(kind, size, f, number)
@@ -299,8 +236,8 @@ class TestDivided(PolysCase):
 
     def test_rests_and_powers(self):
         for name, kind, prime, size in kinds()[1:]:
-            for f in samples(size, 17, 16) + [some_numbers(random.Random(18), size, 80)]:
-                for g in samples(size, 19, 16):
+            for f in samples(random.Random(17), size, 16) + [some_numbers(random.Random(18), size, 80)]:
+                for g in samples(random.Random(19), size, 16):
                     divisor = form(size, g)
                     with self.subTest(name, f=f, g=g):
                         if divisor and divisor[-1] % prime != 0:

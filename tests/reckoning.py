@@ -1,0 +1,123 @@
+"""What the tests expect is reckoned here, apart from the program, with dicts from powers to numbers.
+
+A size of 0 stands for the whole numbers, any other for the rests by it.
+"""
+
+import itertools
+import math
+
+LONG = 314159265358979323846264338327950288419716939937510582097494
+
+
+def brought(size, number):
+    return number % size if size else number
+
+
+def in_form(size, terms):
+    numbers = {at: brought(size, number) for at, number in terms.items()}
+    length = max([at + 1 for at, number in numbers.items() if number != 0], default=0)
+    return [numbers.get(at, 0) for at in range(length)]
+
+
+def form(size, f):
+    return in_form(size, dict(enumerate(f)))
+
+
+def sum_of(size, f, g, sign=1):
+    terms = dict(enumerate(f))
+    for at, number in enumerate(g):
+        terms[at] = terms.get(at, 0) + sign * number
+    return in_form(size, terms)
+
+
+def product_of(size, f, g):
+    terms = {}
+    for i, a in enumerate(f):
+        for k, b in enumerate(g):
+            terms[i + k] = terms.get(i + k, 0) + a * b
+    return in_form(size, terms)
+
+
+def product_of_all(size, factors, number=1):
+    product = form(size, [number])
+    for factor in factors:
+        product = product_of(size, product, factor)
+    return product
+
+
+def product_of_pairs(size, number, pairs):
+    return product_of_all(size, [g for g, e in pairs for k in range(e)], number)
+
+
+def slope_of(size, f):
+    return in_form(size, {at - 1: at * number for at, number in enumerate(f) if at > 0})
+
+
+def value_of(size, f, number):
+    powers = [pow(number, at, size) if size else number ** at for at in range(len(f))]
+    return brought(size, sum(a * b for a, b in zip(f, powers)))
+
+
+def rest_of(prime, f, g):
+    """The rest of f by g over the rests by a prime."""
+    rest = form(prime, f)
+    divisor = form(prime, g)
+    turned = pow(divisor[-1], -1, prime)
+    while len(rest) >= len(divisor):
+        gap = len(rest) - len(divisor)
+        share = rest[-1] * turned
+        rest = sum_of(prime, rest, [0] * gap + [share * number for number in divisor], -1)
+    return rest
+
+
+def goes_into(prime, g, f):
+    return form(prime, f) == [] if form(prime, g) == [] else rest_of(prime, f, g) == []
+
+
+def common_of(prime, f, g):
+    """The common one of the greatest degree, with the lead 1."""
+    one, other = form(prime, f), form(prime, g)
+    while other:
+        one, other = other, rest_of(prime, one, other)
+    return form(prime, [number * pow(one[-1], -1, prime) for number in one]) if one else []
+
+
+def lead_one(prime, degree):
+    """All polynomials with the lead 1 and that degree, over the rests by the prime."""
+    return [list(numbers) + [1] for numbers in itertools.product(range(prime), repeat=degree)]
+
+
+def without_parts(prime, degree):
+    """All polynomials with the lead 1, that degree and without parts, found by trying what could go into them."""
+    smaller = [g for low in range(1, degree // 2 + 1) for g in lead_one(prime, low)]
+    return [f for f in lead_one(prime, degree) if not any(goes_into(prime, g, f) for g in smaller)]
+
+
+def lies_in(size, numbers):
+    """Whether numbers are whole and brought to the kind."""
+    return all(number.__class__ is int and brought(size, number) == number for number in numbers)
+
+
+def order_key(g):
+    return (len(g), g)
+
+
+def content_of(f):
+    return math.gcd(*f)
+
+
+def disguised(source, size, f):
+    """A list that stands for the same polynomial: numbers changed by multiples of the size, noughts at the end."""
+    numbers = [number + size * source.choice([0, 1, -1, 3, -LONG, LONG]) for number in f]
+    return numbers + [size * source.choice([0, 1, -2]) for k in range(source.randrange(0, 3))]
+
+
+def some_numbers(source, size, length):
+    """Numbers as they may be handed in: small, below nought, beside multiples of the size, and long."""
+    near = [0, 0, 1, -1, 2, -3, 5, size, -size, size + 1, size - 1, 2 * size - 1, 7 * size, LONG, -LONG]
+    return [source.choice(near) if source.random() < 0.6 else source.randrange(-1000, 1000) for k in range(length)]
+
+
+def samples(source, size, count=24):
+    fixed = [[], [0], [0, 0, 0], [1], [-1], [0, 1], [1, 0, 0], [size], [1, size], [0, -1, 2, -3, 0], [size, size, 0]]
+    return fixed + [some_numbers(source, size, source.randrange(0, 9)) for k in range(count)]
