@@ -87,10 +87,15 @@ def lead_one(prime, degree):
     return [list(numbers) + [1] for numbers in itertools.product(range(prime), repeat=degree)]
 
 
+def has_no_parts(prime, f):
+    """Whether nothing of a degree from one to half of f's goes into f, by trying all."""
+    smaller = range(1, (len(form(prime, f)) - 1) // 2 + 1)
+    return not any(goes_into(prime, g, f) for degree in smaller for g in lead_one(prime, degree))
+
+
 def without_parts(prime, degree):
-    """All polynomials with the lead 1, that degree and without parts, found by trying what could go into them."""
-    smaller = [g for low in range(1, degree // 2 + 1) for g in lead_one(prime, low)]
-    return [f for f in lead_one(prime, degree) if not any(goes_into(prime, g, f) for g in smaller)]
+    """All polynomials with the lead 1, that degree and without parts."""
+    return [f for f in lead_one(prime, degree) if has_no_parts(prime, f)]
 
 
 def lies_in(size, numbers):
@@ -121,3 +126,37 @@ def some_numbers(source, size, length):
 def samples(source, size, count=24):
     fixed = [[], [0], [0, 0, 0], [1], [-1], [0, 1], [1, 0, 0], [size], [1, size], [0, -1, 2, -3, 0], [size, size, 0]]
     return fixed + [some_numbers(source, size, source.randrange(0, 9)) for k in range(count)]
+
+
+def raised_of(prime, f, many, g):
+    """The rest by g of f taken many times, from the first figure of many on, written by halves."""
+    product = rest_of(prime, [1], g)
+    for figure in bin(many)[2:]:
+        product = rest_of(prime, product_of(prime, product, product), g)
+        if figure == "1":
+            product = rest_of(prime, product_of(prime, product, f), g)
+    return product
+
+
+def table_product(prime, ones, others):
+    return [[sum(row[k] * others[k][j] for k in range(len(others))) % prime for j in range(len(others[0]))]
+            for row in ones]
+
+
+def units(length):
+    return [[int(i == j) for j in range(length)] for i in range(length)]
+
+
+def rank_of(prime, rows):
+    """How many rows are left when each that is a sum of multiples of others is left out."""
+    kept = {}
+    for row in rows:
+        left = [number % prime for number in row]
+        while any(left):
+            at = next(k for k, number in enumerate(left) if number)
+            if at not in kept:
+                kept[at] = left
+                break
+            factor = left[at] * pow(kept[at][at], -1, prime)
+            left = [(a - factor * b) % prime for a, b in zip(left, kept[at])]
+    return len(kept)

@@ -3,7 +3,8 @@
 import copy
 import unittest
 
-from factorforge import commons, polys, squares, texts
+from factorforge import commons, parting, polys, powers, restpapers, squares, tables, texts
+from factorforge.errors import HasParts
 from factorforge.kinds import Kind, Powers, Rests, Wholes
 
 POLYNOMIALS = [
@@ -13,6 +14,11 @@ POLYNOMIALS = [
 
 def all_kinds():
     return [Wholes(), Rests(2), Rests(7), Rests(9973), Powers(7, 1), Powers(7, 2), Powers(9973, 400)]
+
+
+TABLES = [
+    [[1]], [[0]], [[1, 2], [3, 4]], [[0, 0], [0, 0]], [[1, 0], [0, 1]], [[1, 2, 3], [2, 4, 6]], [[7, 8], [1, 1], [0, 5]],
+]
 
 
 def rest_kinds():
@@ -47,13 +53,44 @@ def rests_calls(kind):
     return found
 
 
+def tables_calls(kind):
+    found = [(tables.echelon, [kind, rows]) for rows in TABLES + [[]]]
+    found += [(tables.kernel, [kind, rows]) for rows in TABLES + [[]]]
+    for rows in TABLES:
+        found.append((tables.product, [kind, rows, [[5, 6]] * len(rows[0])]))
+        found.append((tables.product, [kind, [], rows]))
+    return found
+
+
+def parting_calls(kind):
+    found = []
+    for f in POLYNOMIALS:
+        found.append((parting.parts, [kind, monic(f)]))
+        if f:
+            found.append((powers.powering, [kind, monic(f)]))
+            found += [(powers.raised, [kind, f, many, [3, 0, 1]]) for many in (0, 1, 2, 7)]
+    found.append((parting.split, [kind, [0, 1, 1]]))
+    for g in ([3, 1], [1, 1, 1], [1, 1, 0, 1]):
+        found += papers_calls(kind, g)
+    return found
+
+
+def papers_calls(kind, g):
+    try:
+        told = restpapers.paper(kind, g)
+    except HasParts:
+        return [(restpapers.holds, [kind, g, ([1], [0, 1], [[1, 0]] * 3)])]
+    return [(restpapers.paper, [kind, g]), (restpapers.holds, [kind, g, told]), (parting.split, [kind, g])]
+
+
 def texts_calls():
     return [(texts.shown, [f]) for f in POLYNOMIALS] + [(texts.read, [text]) for text in ("x", "0", "3x^2 - x + 7")]
 
 
 def calls():
     found = [call for kind in all_kinds() for call in polys_calls(kind)]
-    found += [call for kind in rest_kinds() for call in rests_calls(kind)]
+    for kind in rest_kinds():
+        found += rests_calls(kind) + tables_calls(kind) + parting_calls(kind)
     return found + texts_calls()
 
 
