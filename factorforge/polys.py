@@ -45,11 +45,15 @@ def scaled(kind, f, number):
     return trimmed(kind, [number * one for one in f])
 
 
-def power(kind, f, many):
+def product_of(kind, factors):
     product = [1]
-    for step in range(many):
-        product = times(kind, product, f)
+    for factor in factors:
+        product = times(kind, product, factor)
     return product
+
+
+def power(kind, f, many):
+    return product_of(kind, [f] * many)
 
 
 def slope(kind, f):

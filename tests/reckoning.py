@@ -5,6 +5,7 @@ A size of 0 stands for the whole numbers, any other for the rests by it.
 
 import itertools
 import math
+from fractions import Fraction
 
 LONG = 314159265358979323846264338327950288419716939937510582097494
 
@@ -107,8 +108,26 @@ def order_key(g):
     return (len(g), g)
 
 
-def content_of(f):
-    return math.gcd(*f)
+def bare_of(f):
+    """(content, bare polynomial), over the whole numbers."""
+    whole = form(0, f)
+    if not whole:
+        return 0, []
+    content = math.gcd(*whole) * (1 if whole[-1] > 0 else -1)
+    return content, [number // content for number in whole]
+
+
+def whole_common_of(f, g):
+    """The bare common one of the greatest degree, by Euclid's steps with fractions."""
+    one, other = ([Fraction(number) for number in form(0, numbers)] for numbers in (f, g))
+    while other:
+        rest = one
+        while len(rest) >= len(other):
+            share = [0] * (len(rest) - len(other)) + [rest[-1] / other[-1] * number for number in other]
+            rest = form(0, [a - b for a, b in zip(rest, share)])
+        one, other = other, rest
+    below = math.lcm(*(number.denominator for number in one))
+    return bare_of([int(number * below) for number in one])[1]
 
 
 def disguised(source, size, f):

@@ -3,7 +3,7 @@
 import copy
 import unittest
 
-from factorforge import commons, parting, polys, powers, restpapers, squares, tables, texts
+from factorforge import bounds, commons, lifting, parting, polys, powers, restpapers, squares, tables, texts, wholes
 from factorforge.errors import HasParts
 from factorforge.kinds import Kind, Powers, Rests, Wholes
 
@@ -83,6 +83,21 @@ def papers_calls(kind, g):
     return [(restpapers.paper, [kind, g]), (restpapers.holds, [kind, g, told]), (parting.split, [kind, g])]
 
 
+def wholes_calls():
+    found = []
+    for f in POLYNOMIALS:
+        found += [(wholes.bared, [f]), (bounds.bound, [monic(f)]), (bounds.many_for, [3, monic(f)])]
+        for g in POLYNOMIALS:
+            found += [(wholes.whole_common, [f, g]), (wholes.goes, [f, monic(g)]), (wholes.steps, [f, monic(g)])]
+            found.append((wholes.goes, [polys.times(Wholes(), f, monic(g)), monic(g)]))
+    found += [(bounds.good_prime, [g]) for g in ([1, 1], [1, 0, 1], [3, 0, 1, 0, 0], [0, 6])]
+    for many in (1, 2, 5):
+        found.append((lifting.lifted, [5, many, [1, 0, 1], [[2, 1], [3, 1]]]))
+        found.append((lifting.lifted, [5, many, [1, 0, 1, 0], [[6, 0, 1]]]))
+        found.append((lifting.lifted, [7, many, [0, 1], [[0, 1]]]))
+    return found
+
+
 def texts_calls():
     return [(texts.shown, [f]) for f in POLYNOMIALS] + [(texts.read, [text]) for text in ("x", "0", "3x^2 - x + 7")]
 
@@ -91,7 +106,7 @@ def calls():
     found = [call for kind in all_kinds() for call in polys_calls(kind)]
     for kind in rest_kinds():
         found += rests_calls(kind) + tables_calls(kind) + parting_calls(kind)
-    return found + texts_calls()
+    return found + wholes_calls() + texts_calls()
 
 
 def each_call():
