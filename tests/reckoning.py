@@ -179,3 +179,72 @@ def rank_of(prime, rows):
             factor = left[at] * pow(kept[at][at], -1, prime)
             left = [(a - factor * b) % prime for a, b in zip(left, kept[at])]
     return len(kept)
+
+
+def rest_paper_is_good(prime, g, one):
+    """Whether the paper is good for g, as point 23 says it."""
+    a, b, r = one
+    whole = form(prime, g)
+    degree = len(whole) - 1
+    if degree < 1 or whole[-1] != 1 or [len(row) for row in r] != [degree - 1] * degree:
+        return False
+    if sum_of(prime, product_of(prime, a, whole), product_of(prime, b, slope_of(prime, whole))) != [1]:
+        return False
+    table = []
+    for at in range(1, degree):
+        rest = raised_of(prime, [0, 1], prime * at, whole)
+        table.append([number - int(k == at) for k, number in enumerate(rest + [0] * (degree - len(rest)))])
+    return table_product(prime, table, r) == units(degree - 1) if table else True
+
+
+def set_list(count):
+    """The sets of one to half of count places, as numbers, the smaller sets first."""
+    found = []
+    for places in range(1, count // 2 + 1):
+        found += sorted(sum(2 ** place for place in chosen) for chosen in itertools.combinations(range(count), places))
+    return found
+
+
+def nearest_of(size, number):
+    """The one above minus half of size and at most half of it that differs by a multiple of size."""
+    rest = number % size
+    return rest if rest <= size - rest else rest - size
+
+
+def candidate_of(g, size, ups, bits):
+    chosen = [up for at, up in enumerate(ups) if bits // 2 ** at % 2 == 1]
+    product = product_of_all(size, chosen, form(0, g)[-1])
+    return form(0, [nearest_of(size, number) for number in product])
+
+
+def row_is_good(g, c, q, r):
+    rest = form(0, r)
+    if not c or not rest or len(rest) >= len(c) or len(c) > len(g):
+        return False
+    often = c[-1] ** (len(g) - len(c) + 1)
+    return sum_of(0, product_of(0, q, c), rest) == form(0, [often * number for number in g])
+
+
+def whole_paper_is_good(g, paper):
+    """Whether the paper is good for g, as point 31 says it, in its order."""
+    prime, many, ups, papers, rows = paper
+    whole = form(0, g)
+    if len(whole) < 2 or bare_of(whole) != (1, whole):
+        return False
+    if not 2 <= prime <= 9973 or any(prime % low == 0 for low in range(2, prime)) or whole[-1] % prime == 0:
+        return False
+    size = prime ** many if 1 <= many <= 400 else 0
+    if size <= 2 * sum(map(abs, whole)) * 2 ** (len(whole) - 1):
+        return False
+    brought_ups = [form(size, up) for up in ups]
+    if not ups or any(len(up) < 2 or up[-1] != 1 for up in brought_ups):
+        return False
+    if product_of_all(size, brought_ups, whole[-1]) != form(size, whole) or len(papers) != len(ups):
+        return False
+    if not all(rest_paper_is_good(prime, up, one) for up, one in zip(brought_ups, papers)):
+        return False
+    by_prime = [form(prime, up) for up in brought_ups]
+    asked = set_list(len(ups))
+    if any(one in by_prime[:at] for at, one in enumerate(by_prime)) or [row[0] for row in rows] != asked:
+        return False
+    return all(row_is_good(whole, candidate_of(whole, size, ups, bits), q, r) for bits, q, r in rows)

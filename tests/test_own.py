@@ -3,7 +3,8 @@
 import copy
 import unittest
 
-from factorforge import bounds, commons, lifting, parting, polys, powers, restpapers, squares, tables, texts, wholes
+from factorforge import bounds, choices, commons, desk, forge, lifting, parting, polys, powers, restpapers, squares
+from factorforge import tables, texts, wholepapers, wholes
 from factorforge.errors import HasParts
 from factorforge.kinds import Kind, Powers, Rests, Wholes
 
@@ -98,6 +99,21 @@ def wholes_calls():
     return found
 
 
+def whole_calls():
+    found = [(choices.sets, [count]) for count in range(7)]
+    found += [(choices.candidate, [[1, 0, 1], 25, [[7, 1], [18, 1]], bits]) for bits in range(4)]
+    for g in ([1, 1], [3, 0, 1, 0, 0], [1, 0, 0, 0, 1], [1, 0, -10, 0, 1]):
+        found += [(wholepapers.looked, [g]), (wholepapers.whole_holds, [g, wholepapers.looked(g)[1]])]
+        found.append((wholepapers.whole_holds, [[1, 2, 3], wholepapers.looked(g)[1]]))
+    found += [(wholepapers.looked, [g]) for g in ([-1, 0, 1], [0, 2, 3], [4, 0, 0, 0, 1, 0])]
+    for f in POLYNOMIALS:
+        found += [(forge.whole_parts, [monic(f)]), (forge.told, [monic(f)])]
+        for pairs in ([], [(f, 1)], [(f, 2), ([1, 1], 1), (f, 1)]):
+            found += [(desk.product_shown, [-2, pairs]), (desk.multiplied, [-2, pairs])]
+    found += [(desk.product_read, [text]) for text in ("0", "-2 * (x - 1)^2 * (x + 1)", "1 * (0) * (0) * (7)")]
+    return found + [(desk.asked, [line]) for line in ("parts of x^2 - 1", "common of x and x^2", "parts by 5 of x^2")]
+
+
 def texts_calls():
     return [(texts.shown, [f]) for f in POLYNOMIALS] + [(texts.read, [text]) for text in ("x", "0", "3x^2 - x + 7")]
 
@@ -106,7 +122,7 @@ def calls():
     found = [call for kind in all_kinds() for call in polys_calls(kind)]
     for kind in rest_kinds():
         found += rests_calls(kind) + tables_calls(kind) + parting_calls(kind)
-    return found + wholes_calls() + texts_calls()
+    return found + wholes_calls() + whole_calls() + texts_calls()
 
 
 def each_call():

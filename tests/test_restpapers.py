@@ -8,8 +8,8 @@ import unittest
 from factorforge.errors import HasParts
 from factorforge.kinds import Rests
 from factorforge.restpapers import holds, paper
-from reckoning import LONG, disguised, form, has_no_parts, lead_one, lies_in, product_of, product_of_all, raised_of
-from reckoning import slope_of, sum_of, table_product, units, without_parts
+from reckoning import LONG, disguised, form, has_no_parts, lead_one, lies_in, product_of, product_of_all
+from reckoning import rest_paper_is_good, slope_of, sum_of, without_parts
 
 SMALL = ((2, 5), (3, 3), (5, 2), (7, 2))
 LARGE = [(2, [1, 1] + [0] * 7 + [1]), (2, [1] * 13), (2, [1, 0, 0, 0, 0, 1] + [0] * 6 + [1]), (3, [1, 2, 0, 0, 0, 1]),
@@ -23,27 +23,11 @@ def small_without_parts():
             yield from ((prime, g) for g in without_parts(prime, degree))
 
 
-def is_good(prime, g, one):
-    """Whether the paper is good for g, as point 23 says it."""
-    a, b, r = one
-    whole = form(prime, g)
-    degree = len(whole) - 1
-    if degree < 1 or whole[-1] != 1 or [len(row) for row in r] != [degree - 1] * degree:
-        return False
-    if sum_of(prime, product_of(prime, a, whole), product_of(prime, b, slope_of(prime, whole))) != [1]:
-        return False
-    table = []
-    for at in range(1, degree):
-        rest = raised_of(prime, [0, 1], prime * at, whole)
-        table.append([number - int(k == at) for k, number in enumerate(rest + [0] * (degree - len(rest)))])
-    return table_product(prime, table, r) == units(degree - 1) if table else True
-
-
 class PapersCase(unittest.TestCase):
     def assert_holds(self, expected, prime, g, one):
         with self.subTest(prime=prime, g=g, paper=one):
             self.assertIs(holds(Rests(prime), g, one), expected)
-            self.assertIs(is_good(prime, g, one), expected)
+            self.assertIs(rest_paper_is_good(prime, g, one), expected)
 
 
 class TestPaper(PapersCase):
@@ -118,7 +102,7 @@ class TestHolds(PapersCase):
                     self.assert_holds(False, prime, g, (changed(a, at, change), b, r))
                     self.assert_holds(False, prime, g, (a, changed(b, at, change), r))
                     other = changed(g, at, change)
-                    self.assertIs(holds(Rests(prime), other, (a, b, r)), is_good(prime, other, (a, b, r)))
+                    self.assertIs(holds(Rests(prime), other, (a, b, r)), rest_paper_is_good(prime, other, (a, b, r)))
 
     def test_g_changed_is_another_polynomial(self):
         for prime, g, one in self.each_paper():
@@ -131,7 +115,7 @@ class TestHolds(PapersCase):
             for i, j in itertools.product(range(degree), range(degree - 1)):
                 other = copy.deepcopy(r)
                 other[i][j] += 1
-                found.append(is_good(prime, g, (a, b, other)))
+                found.append(rest_paper_is_good(prime, g, (a, b, other)))
                 self.assert_holds(found[-1], prime, g, (a, b, other))
             # All but one of the rows are asked for something by the product.
             self.assertGreaterEqual(found.count(False), (degree - 1) * (degree - 1))
