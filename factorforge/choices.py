@@ -22,7 +22,7 @@ def place_count(bits):
 def candidate(g, size, ups, bits):
     product = [trimmed(Wholes(), g)[-1]]
     for at, up in enumerate(ups):
-        if bits >> at & 1 == 1:
+        if (bits >> at) & 1 == 1:
             product = rests_by(size, times(Wholes(), product, rests_by(size, up)))
     return trimmed(Wholes(), [nearest(size, number) for number in product])
 

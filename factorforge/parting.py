@@ -5,7 +5,6 @@ stay the same by g: by each part without parts of g such an h is a number, and u
 """
 
 from factorforge.commons import common
-from factorforge.errors import Nought
 from factorforge.polys import less, trimmed, value
 from factorforge.powers import power_rows, powering
 from factorforge.squares import free_parts
@@ -53,12 +52,10 @@ def told_apart(kind, pieces, h, numbers):
     return finer
 
 
+# Nought is refused by free_parts.
 def parts(kind, f):
-    whole = trimmed(kind, f)
-    if not whole:
-        raise Nought("nought has no parts to be told")
     pairs = []
-    for free, often in free_parts(kind, whole):
+    for free, often in free_parts(kind, f):
         for g in split(kind, free):
             pairs.append((g, often))
-    return (whole[-1], sorted(pairs, key=lambda pair: order_key(pair[0])))
+    return (trimmed(kind, f)[-1], sorted(pairs, key=lambda pair: order_key(pair[0])))

@@ -11,7 +11,11 @@ def column(rows, at):
 
 
 def row_product(kind, row, columns):
-    return [kind.plain(sum([a * b for a, b in zip(row, one)])) for one in columns]
+    return [kind.plain(sum_of_products(row, one)) for one in columns]
+
+
+def sum_of_products(ones, others):
+    return sum([a * b for a, b in zip(ones, others)])
 
 
 def unit_table(length):

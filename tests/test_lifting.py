@@ -123,6 +123,9 @@ class TestRefused(PolysCase):
         self.assert_bad(2, [1, 1, 2, 0, 0], [[1, 1]])
         self.assert_bad(5, [1, 5], [[1, 1]])
         self.assert_bad(9973, [2, 1, LONG * 9973], [[2, 1]])
+        # Over Rests f is nought here, and so is its lead times whatever pieces.
+        self.assert_bad(3, [3, 3], [[1, 1]])
+        self.assert_bad(3, [0, -9, 6], [[1, 1], [0, 1]])
 
     def test_nought(self):
         for f in ([], [0], [0, 0, 0]):
@@ -134,7 +137,9 @@ class TestRefused(PolysCase):
         self.assert_bad(5, [2, 2], [[1, 2]])
         self.assert_bad(5, [1, 2], [[1, 2]])
         self.assert_bad(5, [1, 0, -1], [[1, 1], [1, -1]])
-        self.assert_bad(5, [2, 3, 1], [[1, 3], [4, 2]])
+        # Leads that cancel out in the product.
+        self.assert_bad(5, [1, 0, 1], [[1, 3], [1, 2]])
+        self.assert_bad(7, product_of_all(0, [[1, 2], [1, 4], [5, 1]]), [[1, 2], [1, 4], [5, 1]])
         self.assert_bad(5, [1, 4], [[4, 1, 5, 2]])
 
     def test_degree_nought(self):

@@ -171,12 +171,18 @@ class TestBroken(HoldsCase):
                 self.assert_holds(False, g, paper[:2] + (ups, papers, rows))
 
     def test_pieces_with_other_leads(self):
+        # The leads cancel out in the product, and those of 1 + prime are 1 by the prime.
         for g, paper in self.each_paper():
-            if len(paper[2]) > 1:
-                size = paper[0] ** paper[1]
-                one = [3 * number % size for number in paper[2][0]]
-                other = [pow(3, -1, size) * number % size for number in paper[2][1]] if paper[0] != 3 else paper[2][1]
-                self.assert_holds(False, g, with_field(paper, 2, [one, other] + paper[2][2:]))
+            prime, many, ups, papers, rows = paper
+            size = prime ** many
+            for lead in (prime + 1, prime - 1):
+                if len(ups) > 1:
+                    one = [lead * number % size for number in ups[0]]
+                    other = [pow(lead, -1, size) * number % size for number in ups[1]]
+                    others = [one, other] + ups[2:]
+                    self.assertEqual(product_of_all(size, others, g[-1]), form(size, g))
+                    rows = [(bits, *steps(g, candidate(g, size, others, bits))) for bits in sets(len(ups))]
+                    self.assert_holds(False, g, (prime, many, others, papers, rows))
 
     def test_a_piece_that_parts_by_the_prime(self):
         for g, paper in self.each_paper():
